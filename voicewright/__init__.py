@@ -1,0 +1,1 @@
+"""Voicewright: lines, canons, chords and exact musical time."""
