@@ -1,0 +1,108 @@
+"""That each name of the interface stands in its own file, with its arguments and the methods of its classes."""
+
+import ast
+import inspect
+import pathlib
+import unittest
+
+import voicewright
+
+FOLDER = pathlib.Path(voicewright.__file__).parent
+
+DEFS = {
+    "notes": ["check_note(note)", "class_of(note)", "octave_of(note)", "read_note(text)", "spellings(note)",
+              "apart(one, other)", "moved(one, letters, steps)", "turned(note, about)"],
+    "steps": ["size(one, other)", "simple(one, other)", "goes_together(low, high)", "is_perfect(low, high)",
+              "is_step(one, other)", "is_leap(one, other)", "way_of(one, other)",
+              "motion(low, low_next, high, high_next)", "runs_alike(low, low_next, high, high_next)",
+              "falls_into(low, low_next, high, high_next)", "inverted(steps)", "shape(tune)", "moves(tune)",
+              "span(tune)", "top_places(tune)"],
+    "keys": ["all_keys()", "keys_of(tune)", "outside(key, tune)", "nearest_key(tune)", "shares(one, other)",
+             "fifths(key)", "signs_of(many)", "spelled_in(key, note)"],
+    "parts": ["shared(one, other)", "part(top, low=1)", "plus(one, other)", "minus(one, other)", "times(one, other)",
+              "by(one, other)", "is_less(one, other)", "least(one, other)", "greatest(one, other)",
+              "whole_below(one)", "total(parts)", "rest_by(one, other)", "in_order(parts)", "check_length(one)"],
+    "lines": ["keeps(given, line, rules)", "line_cost(given, line, rules)", "first_spots(given, rules)",
+              "may_follow(given, place, spot, note, rules)", "heights(given, rules)", "best_line(given, rules)",
+              "source(given, rules, table, place, spot)", "how_many(given, rules)",
+              "check_heights(given, rules, table)", "check_line(given, line, rules, table)",
+              "check_none(given, rules, table)"],
+    "pairs": ["passes(before, here, after)", "may_pair(rules, low, low_next, first, second, after)",
+              "pair_cost(first, second, after)", "keeps_pairs(given, line, rules)", "cost_of_pairs(line)",
+              "pair_heights(given, rules)", "follows(given, place, first, rules)", "best_pairs(given, rules)",
+              "check_pairs(given, line, rules, table)", "firsts(line)", "passed(line)"],
+    "canons": ["overlap(tune, other, delay)", "may_sound(pairs)", "follows_at(tune, delay, shift)",
+               "all_canons(tune, delays, shifts)", "mirrored(tune, about)", "backwards(tune)",
+               "all_mirrors(tune, delays, abouts)", "crab(tune)", "may_add(tune, note, delay, shift)",
+               "next_states(state, notes, delay, shift)", "best_canon(notes, long, delay, shift)",
+               "canon_heights(notes, long, delay, shift)", "tune_cost(tune)",
+               "check_canon(tune, notes, delay, shift, table)", "round_may(tune, delay)"],
+    "chords": ["classes(notes)", "chord(root, kind)", "names(notes)", "within(notes)", "inversion(notes)",
+               "turned_chord(root, kind, by)", "close(root, kind, low)", "layouts(root, kind, low, high, many)",
+               "triads_of(key)", "common(one, other)"],
+}
+CLASSES = {
+    ("notes", "Spelled"): ["__init__(self, letter, signs, octave)", "note(self)", "place(self)", "shown(self)",
+                           "told(self)"],
+    ("keys", "Key"): ["__init__(self, root, kind)", "classes(self)", "has(self, note)", "degree(self, note)",
+                      "place(self, note)", "at(self, place)", "moved(self, note, degrees)",
+                      "between(self, low, high)", "shown(self)"],
+    ("lines", "Rules"): ["__init__(self, notes, leap=9, along=1, repeat=2, above=True)", "sounds(self, low, high)",
+                         "may_begin(self, low, high)", "may_move(self, low, low_next, high, high_next)",
+                         "cost(self, low, low_next, high, high_next)", "turns(self, before, here, after)"],
+}
+ERRORS = ("MusicFault", "BadNote", "BadTime", "BadLine", "NoLine", "BadPaper", "BadSize", "BadText", "BadStore",
+          "NoSuch")
+
+
+def module(name):
+    return __import__("voicewright." + name, fromlist=["x"])
+
+
+def tree_of(name):
+    return ast.parse((FOLDER / (name + ".py")).read_text())
+
+
+class Interface(unittest.TestCase):
+    def test_functions(self):
+        for name, wanted in DEFS.items():
+            own = [node.name for node in tree_of(name).body if isinstance(node, ast.FunctionDef)]
+            for one in wanted:
+                called = one.split("(")[0]
+                self.assertIn(called, own)
+                self.assertEqual(called + str(inspect.signature(getattr(module(name), called))), one)
+
+    def test_classes(self):
+        for (name, called), wanted in CLASSES.items():
+            own = [node for node in tree_of(name).body if isinstance(node, ast.ClassDef) and node.name == called]
+            self.assertEqual(len(own), 1)
+            body = [node.name for node in own[0].body if isinstance(node, ast.FunctionDef)]
+            for one in wanted:
+                method = one.split("(")[0]
+                self.assertIn(method, body)
+                self.assertEqual(method + str(inspect.signature(getattr(getattr(module(name), called), method))), one)
+
+    def test_errors_are_defined_in_their_file(self):
+        own = [node.name for node in tree_of("errors").body if isinstance(node, ast.ClassDef)]
+        self.assertEqual(own, list(ERRORS))
+
+
+class Files(unittest.TestCase):
+    def test_sizes_and_signs(self):
+        for path in sorted(FOLDER.glob("*.py")):
+            text = path.read_text()
+            rows = text.split("\n")
+            self.assertLess(len(rows), 400, path)
+            self.assertLessEqual(max(len(row) for row in rows), 120, path)
+            self.assertTrue(all(sign == "\n" or " " <= sign <= "~" for sign in text), path)
+            for node in ast.walk(ast.parse(text)):
+                if isinstance(node, ast.FunctionDef):
+                    self.assertLessEqual(node.end_lineno - node.lineno + 1, 40, node.name)
+                    self.assertTrue(ast.get_docstring(node), node.name)
+
+    def test_imports(self):
+        for path in sorted(FOLDER.glob("*.py")):
+            for node in ast.walk(ast.parse(path.read_text())):
+                self.assertNotIsInstance(node, ast.Import)
+                if isinstance(node, ast.ImportFrom):
+                    self.assertTrue(node.module in ("math", "itertools") or node.module.startswith("voicewright."))
