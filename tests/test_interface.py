@@ -40,6 +40,20 @@ DEFS = {
     "chords": ["classes(notes)", "chord(root, kind)", "names(notes)", "within(notes)", "inversion(notes)",
                "turned_chord(root, kind, by)", "close(root, kind, low)", "layouts(root, kind, low, high, many)",
                "triads_of(key)", "common(one, other)"],
+    "leads": ["check_rows(one, other)", "cost_of(one, other)", "straight(one, other)", "least_steps(one, other)",
+              "crossing(one, other)", "weights(one, other)", "check_weights(one, other, papers)",
+              "to_chord(notes, steps, low, high)", "course(rows)", "course_cost(rows)"],
+    "courses": ["fitting(style, note)", "heights_under(style, tune)", "best_course(style, tune)",
+                "course_of(style, tune, numbers)", "best_courses(style, tune, many)",
+                "check_under(style, tune, table)", "check_course(style, tune, numbers, table)",
+                "told_course(style, numbers)"],
+    "motives": ["places_of(motive, tune)", "moved_places(motive, tune)", "turned_places(motive, tune)",
+                "back_places(motive, tune)", "shaped_places(motive, tune)", "spread_within(motive, tune, gap)",
+                "longest_again(tune)", "all_motives(tune, long)", "covered(tune, motive)", "alike(one, other)"],
+    "beats": ["even(struck, many)", "strokes(row)", "gaps(row)", "turned_row(row, by)", "same_round(one, other)",
+              "is_even(row)", "all_rows(struck, many)", "least_turn(row)", "rounds(struck, many)",
+              "shared_by(one, other)", "choose(many, few)", "how_many_rounds(struck, many)",
+              "both_struck(one, other)", "off(row, strong)", "against(one, other)"],
 }
 CLASSES = {
     ("notes", "Spelled"): ["__init__(self, letter, signs, octave)", "note(self)", "place(self)", "shown(self)",
@@ -50,6 +64,8 @@ CLASSES = {
     ("lines", "Rules"): ["__init__(self, notes, leap=9, along=1, repeat=2, above=True)", "sounds(self, low, high)",
                          "may_begin(self, low, high)", "may_move(self, low, low_next, high, high_next)",
                          "cost(self, low, low_next, high, high_next)", "turns(self, before, here, after)"],
+    ("courses", "Style"): ["__init__(self, chords, costs, moves, other=3)", "fits(self, number, note)",
+                           "cost(self, number)", "move(self, one, other)"],
 }
 ERRORS = ("MusicFault", "BadNote", "BadTime", "BadLine", "NoLine", "BadPaper", "BadSize", "BadText", "BadStore",
           "NoSuch")
