@@ -54,6 +54,17 @@ DEFS = {
               "is_even(row)", "all_rows(struck, many)", "least_turn(row)", "rounds(struck, many)",
               "shared_by(one, other)", "choose(many, few)", "how_many_rounds(struck, many)",
               "both_struck(one, other)", "off(row, strong)", "against(one, other)"],
+    "bars": ["cut_at_bars(meter, start, length)", "written(most, halvings, points)", "power(count)",
+             "sorted_down(lengths)", "tied(length, lengths, most=6)", "written_note(meter, start, length, lengths)",
+             "many_written(meter, notes, lengths)"],
+    "tempos": ["merged(tempos)", "meets(tempos, other, times_of)", "even_change(start, first, last, steps)"],
+    "players": ["check_notes(notes)", "order_of(notes)", "players_of(notes)", "sounding(notes, time)",
+                "fullest(notes)", "fewest(notes)", "check_players(notes, players, time)",
+                "part_of(notes, players, player)", "overlaps(notes)", "end_of(notes)"],
+    "streams": ["events(notes)", "is_ahead(one, other)", "put_in(rows, one)", "together(streams)",
+                "notes_of(stream)", "moved_stream(stream, much)", "between(stream, start, end)",
+                "open_at(stream, time)", "steps_between(stream)", "from_steps(rows)"],
+    "kept": ["worse_by(kept, line)"],
 }
 CLASSES = {
     ("notes", "Spelled"): ["__init__(self, letter, signs, octave)", "note(self)", "place(self)", "shown(self)",
@@ -66,6 +77,14 @@ CLASSES = {
                          "cost(self, low, low_next, high, high_next)", "turns(self, before, here, after)"],
     ("courses", "Style"): ["__init__(self, chords, costs, moves, other=3)", "fits(self, number, note)",
                            "cost(self, number)", "move(self, one, other)"],
+    ("bars", "Meter"): ["__init__(self, beats, length, strong=())", "bar(self)", "place(self, time)",
+                        "weight(self, time)", "next_bar(self, time)"],
+    ("tempos", "Tempos"): ["__init__(self, changes)", "time_of(self, beat)", "beat_at(self, time)",
+                           "length_at(self, beat)", "changed(self, beat, length)", "stretched(self, much)",
+                           "shown(self)"],
+    ("kept", "Kept"): ["__init__(self, given, rules)", "fill(self)", "next_heights(self, place)",
+                       "change(self, place, many, notes)", "cost(self)", "line(self)", "heights(self)",
+                       "check(self)"],
 }
 ERRORS = ("MusicFault", "BadNote", "BadTime", "BadLine", "NoLine", "BadPaper", "BadSize", "BadText", "BadStore",
           "NoSuch")

@@ -3,8 +3,8 @@ import unittest
 from fractions import Fraction
 
 from voicewright.errors import BadTime
-from voicewright.parts import (by, check_length, greatest, in_order, is_less, least, minus, part, plus, rest_by, shared,
-                               times, total, whole_below)
+from voicewright.parts import (as_wholes, by, check_length, greatest, in_order, is_less, least, minus, part, plus,
+                               rest_by, shared, times, total, whole_below)
 
 LOT = sorted({(Fraction(top, low).numerator, Fraction(top, low).denominator)
               for top in range(-7, 8) for low in (1, 2, 3, 4, 6)})
@@ -85,6 +85,11 @@ class Parts(unittest.TestCase):
         for one in ((0, 1), (-1, 2), (0, 7), (1, -2)):
             with self.assertRaises(BadTime):
                 check_length(one)
+
+    def test_as_wholes(self):
+        self.assertEqual(as_wholes([(1, 2), (-2, 3), (0, 1), (5, 4)]), [6, -8, 0, 15])
+        self.assertEqual(as_wholes([(2, 1), (1, 1)]), [2, 1])
+        self.assertEqual(as_wholes(()), [])
 
     def test_big_numbers_stay_exact(self):
         big = 10 ** 40

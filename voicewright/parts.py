@@ -1,6 +1,6 @@
 """Parts: exact lengths and times, (top, low) made small."""
 
-from math import gcd
+from math import gcd, lcm
 
 from voicewright.errors import BadTime
 
@@ -90,3 +90,12 @@ def check_length(one):
     if top <= 0:
         raise BadTime("a length is above nought")
     return (top, low)
+
+
+def as_wholes(parts):
+    """Return parts, in their order, as whole numbers of one unit that goes into all."""
+    # Whole numbers are put in order and compared much faster than parts.
+    unit = 1
+    for one in parts:
+        unit = lcm(unit, one[1])
+    return [one[0] * (unit // one[1]) for one in parts]
