@@ -61,7 +61,7 @@ def all_rows(struck, many):
     if not 0 <= struck <= many:
         return ()
     rows = []
-    for places in combinations(list(range(many)), struck):
+    for places in combinations(range(many), struck):
         rows.append(tuple([1 if place in places else 0 for place in range(many)]))
     return tuple(sorted(rows))
 
