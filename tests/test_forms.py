@@ -138,6 +138,8 @@ class Writings(unittest.TestCase):
         self.assertIs(is_again("abcaa", 3), False)
         self.assertIs(is_again((1, 2, 1), 2), True)
         self.assertIs(is_again("ab", 0), False)
+        self.assertIs(is_again("a", 0), False)
+        self.assertIs(is_again("", 0), True)
         self.assertIs(is_again("", 1), True)
 
 

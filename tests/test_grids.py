@@ -161,6 +161,8 @@ class Papers(unittest.TestCase):
         for numbers in ((0, 1, 5), (-1, 0, 1), (5, 5, 5)):
             with self.assertRaises(BadPaper):
                 check_grid(self.ROWS, (1, 4), 4, numbers, self.table())
+        with self.assertRaises(BadPaper):
+            check_grid([(0, 1)], (1, 4), -1, (-1,), ({-1: (1, 4)},))
 
     def test_places_that_do_not_rise(self):
         for numbers in ((0, 1, 1), (2, 1, 0), (0, 1), (0, 1, 2, 3), ()):

@@ -142,6 +142,8 @@ class Papers(unittest.TestCase):
         table = [{spot: -1 for spot in here} for here in self.table()]
         with self.assertRaises(BadPaper):
             check_spots(NECK, self.TUNE, best_spots(NECK, self.TUNE), table)
+        with self.assertRaises(BadPaper):
+            check_spots(NECK, (45,), ((1, 0),), ({(0, 5): -1, (1, 0): -1},))
 
     def test_another_length(self):
         best = best_spots(NECK, self.TUNE)
